@@ -1,0 +1,234 @@
+package project
+
+import (
+	"fmt"
+	"math/rand"
+	"slices"
+	"strings"
+	"testing"
+
+	"cartulary/api"
+	"cartulary/codec"
+)
+
+// saves saves a view that has taken what are not this store's events.
+func (w *world) saves(v *View) {
+	w.t.Helper()
+	if e := v.Save(w.s); e != api.OK {
+		w.t.Fatalf("Save: %v", e)
+	}
+}
+
+// P17.4, P17.5: a view of another store's events that is saved in this one: the cursor of what Open gives is never more than this one has events, and the rows are never the other one's: not when there are so many events either.
+func TestOfAnotherStore(t *testing.T) {
+	for cursor := 1; cursor <= 6; cursor++ {
+		other := begun(t, 64)
+		other.add("else", given(1000), given(2000), given(3000), given(4000), given(5000), given(6000))
+		w := begun(t, 64)
+		w.saves(other.view(chapter(), cursor))
+		for i := range 9 {
+			w.opens(chapter(), 0)
+			w.goesOn(chapter())
+			w.reopen()
+			w.opens(chapter(), 0)
+			w.add("acc", given(i))
+		}
+		w.save(w.view(chapter(), 4))
+		w.opens(chapter(), 4)
+	}
+}
+
+// P17.4, P17.5: likewise of entries that were made by hand: more than the store has, as many, fewer; such as no store has, too.
+func TestOfEntriesByHand(t *testing.T) {
+	for _, e := range []api.Event{given(7), {}, event("", 0), event("taken", -1, number("n", 7)), event("taken", api.MaxVersion+1, number("n", 7)), event("taken", 0, number("n", 7), number("n", 8)), event("taken", 0, number("", 1), number("n", 7)), event("taken", 0, words("s", strings.Repeat("x", 2001)), number("n", 7))} {
+		for _, stream := range []string{"acc", "", "box", strings.Repeat("s", 61)} {
+			for _, n := range []int{1, 2, 3, 4, 5, 8} {
+				w := begun(t, 64)
+				v := New(chapter(), nil)
+				for range n {
+					takes(t, v, stream, e)
+				}
+				w.add("acc", given(1), given(2), given(3))
+				w.saves(v)
+				w.opens(chapter(), 0)
+				w.goesOn(chapter())
+				w.add("acc", given(4), given(5), given(6), given(7), given(8))
+				w.opens(chapter(), 0)
+				w.goesOn(chapter())
+			}
+		}
+	}
+}
+
+// P17.4: what the other one has taken is told apart by each thing of each event.
+func TestToldApart(t *testing.T) {
+	type log []api.Entry
+	at := func(stream string, e api.Event) api.Entry { return api.Entry{Stream: stream, Event: e} }
+	same := log{at("acc", given(1)), at("box", event("taken", 0, number("n", 2), words("s", "x"))), at("acc", event("opened", 3, number("m", 3)))}
+	w := begun(t, 64)
+	for _, x := range same {
+		w.add(x.Stream, x.Event)
+	}
+	others := map[string]log{
+		"exchanged": {same[1], same[0], same[2]}, "the last two exchanged": {same[0], same[2], same[1]}, "twice": {same[0], same[0], same[1]},
+	}
+	for i := range same {
+		for name, x := range map[string]api.Entry{
+			"stream": at("ac", same[i].Event), "stream, one byte": at("acd", same[i].Event),
+			"type":    at(same[i].Stream, event("x", same[i].Event.Version, same[i].Event.Fields...)),
+			"version": at(same[i].Stream, event(same[i].Event.Type, 1, same[i].Event.Fields...)),
+			"a field": at(same[i].Stream, event(same[i].Event.Type, same[i].Event.Version, number("n", 99))),
+			"a name":  at(same[i].Stream, event(same[i].Event.Type, same[i].Event.Version, number("o", i+1))),
+			"a text":  at(same[i].Stream, event(same[i].Event.Type, same[i].Event.Version, words("n", "1"))),
+			"more":    at(same[i].Stream, event(same[i].Event.Type, same[i].Event.Version, append(slices.Clone(same[i].Event.Fields), number("z", 0))...)),
+			"none":    at(same[i].Stream, event(same[i].Event.Type, same[i].Event.Version)),
+		} {
+			l := slices.Clone(same)
+			l[i] = x
+			others[fmt.Sprint(name, " of ", i)] = l
+		}
+	}
+	view := func(l log) *View {
+		v := New(chapter(), nil)
+		for _, x := range l {
+			takes(t, v, x.Stream, x.Event)
+		}
+		return v
+	}
+	for name, l := range others {
+		w.saves(view(l))
+		if v := w.open(chapter()); v.Cursor() != 0 {
+			t.Errorf("%s: the cursor %d", name, v.Cursor())
+		}
+		w.goesOn(chapter())
+	}
+	for n := range 4 {
+		w.saves(view(same[:n]))
+		w.opens(chapter(), n)
+	}
+}
+
+// P17.4: a store's copy that has come to more events: what was saved of those counts when this one has the same ones, and else never.
+func TestOfAnotherLife(t *testing.T) {
+	for _, same := range []bool{true, false} {
+		w := some(t, 4)
+		other := w.again()
+		other.add("acc", given(4))
+		other.add("box", given(5))
+		w.saves(other.view(chapter(), 6))
+		w.opens(chapter(), 0)
+		w.add("acc", given(4))
+		w.opens(chapter(), 0)
+		if same {
+			w.add("box", given(5))
+		} else {
+			w.add("box", given(6))
+		}
+		want := 0
+		if same {
+			want = 6
+		}
+		w.opens(chapter(), want)
+		w.add("acc", given(7))
+		w.opens(chapter(), want)
+		w.goesOn(chapter())
+		// What is of the events that both have counts.
+		w.saves(other.view(chapter(), 4))
+		w.opens(chapter(), 4)
+	}
+}
+
+// survives asks all of what Open gives, whatever stands under the name: nothing panics.
+func survives(w *world, data string) {
+	w.t.Helper()
+	if e := w.s.Save("view.sums", []byte(data)); e != api.OK {
+		w.t.Fatalf("Save: %v", e)
+	}
+	v, e := Open(w.s, chapter(), nil)
+	if v == nil || e != api.OK {
+		w.t.Fatalf("Open of %q: %v, %v", data, v, e)
+	}
+	if n := v.Cursor(); n < 0 || n > len(w.log) {
+		w.t.Fatalf("Open of %q: the cursor %d of %d", data, n, len(w.log))
+	}
+	v.Rows()
+	v.Get("acc")
+	if n, e := v.Tick(w.s, most); e != api.OK || v.Cursor() != len(w.log) {
+		w.t.Fatalf("Tick: %d, %v, %d", n, e, v.Cursor())
+	}
+	v.Rows()
+	if e := v.Save(w.s); e != api.OK {
+		w.t.Fatalf("Save: %v", e)
+	}
+}
+
+// R1: any bytes under a view's name, by a hand: beginnings and ends of what is saved, with bits turned, drawn ones.
+func TestBytesByHand(t *testing.T) {
+	w := some(t, 9)
+	w.save(w.view(chapter(), 6))
+	whole := w.lies("view.sums")
+	for i := range len(whole) + 1 {
+		survives(w, whole[:i])
+		survives(w, whole[i:])
+		survives(w, whole[:i]+"\x80"+whole[i:])
+	}
+	for i := range len(whole) * 8 {
+		b := []byte(whole)
+		b[i/8] ^= 1 << (i % 8)
+		survives(w, string(b))
+	}
+	r := rand.New(rand.NewSource(3))
+	for _, n := range []int{1, 4, 5, 6, 7, 8, 9, 20, 512, 8000} {
+		survives(w, strings.Repeat("\x00", n))
+		survives(w, strings.Repeat("\xff", n))
+		survives(w, strings.Repeat("\x80", n))
+		for range 20 {
+			b := make([]byte, n)
+			r.Read(b)
+			survives(w, string(b))
+		}
+	}
+	w.isLog()
+}
+
+// R1: what is laid as a view is, with numbers and rows that there never are.
+func TestLaidByHand(t *testing.T) {
+	w := some(t, 3)
+	rows, _ := rowsOf(300)
+	own := w.view(chapter(), 3).state.mark
+	for _, mark := range []uint32{0, 1, 1<<32 - 1, own} {
+		for _, cursor := range []int{0, 1, 3, 4, 5, -1, most, least, 1 << 40} {
+			head := codec.PutInt(codec.Put32(nil, mark), cursor)
+			for _, l := range [][]api.Row{nil, rows, {row("a", most), row("a", least)}, {row("acc", most), row("box", least)}, {row(strings.Repeat("x", 200), 5)}} {
+				survives(w, string(append(slices.Clone(head), parts(l, putRow)...)))
+			}
+			survives(w, string(codec.PutText(head, strings.Repeat("x", 201)))+"\x00")
+			survives(w, string(head)+"\xff\xff\xff\xff\xff\xff\xff\xff\xff\x01")
+			survives(w, string(head)+"\x01x")
+		}
+	}
+}
+
+// What was laid is read as it was; and nothing else is read so.
+func TestLaid(t *testing.T) {
+	for _, mark := range []uint32{0, 1, 0xdeadbeef, 1<<32 - 1} {
+		for _, cursor := range []int{0, 1, 127, 1 << 20, most} {
+			for _, l := range [][]api.Row{nil, {row("", 0)}, {row("", -1), row("\x00", bound), row(strings.Repeat("x", 200), -bound)}} {
+				rows := map[string]int{}
+				for _, r := range l {
+					rows[r.Key] = r.N
+				}
+				data := lay(taken{cursor, mark, rows})
+				got, whole := unlay(data)
+				if !whole || got.cursor != cursor || got.mark != mark || !slices.Equal(got.list(), l) {
+					t.Errorf("%+v, %v", got, whole)
+				}
+				for i := range data {
+					if got, whole := unlay(data[:i]); whole && string(lay(got)) != string(data[:i]) {
+						t.Errorf("%d bytes of %d: %+v", i, len(data), got)
+					}
+				}
+			}
+		}
+	}
+}

@@ -60,7 +60,7 @@ func TestOfEntriesByHand(t *testing.T) {
 	}
 }
 
-// P17.4: what the other one has taken is told apart by each thing of each event.
+// P17.4: what the other one has taken is told apart by each thing of each event of which something comes: what Open gives are this store's rows. Where the same comes of both, it is the view that was saved.
 func TestToldApart(t *testing.T) {
 	type log []api.Entry
 	at := func(stream string, e api.Event) api.Entry { return api.Entry{Stream: stream, Event: e} }
@@ -95,16 +95,48 @@ func TestToldApart(t *testing.T) {
 		}
 		return v
 	}
+	apart := 0
 	for name, l := range others {
-		w.saves(view(l))
-		if v := w.open(chapter()); v.Cursor() != 0 {
-			t.Errorf("%s: the cursor %d", name, v.Cursor())
+		v, want := view(l), 3
+		if !slices.Equal(v.Rows(), plainRows(chapter(), nil, w.log)) {
+			apart++
+			want = 0
+		}
+		w.saves(v)
+		if v := w.open(chapter()); v.Cursor() != want {
+			t.Errorf("%s: the cursor %d, not %d", name, v.Cursor(), want)
 		}
 		w.goesOn(chapter())
+	}
+	if apart < 10 || apart > len(others)-10 {
+		t.Errorf("%d of %d are told apart", apart, len(others))
 	}
 	for n := range 4 {
 		w.saves(view(same[:n]))
 		w.opens(chapter(), n)
+	}
+}
+
+// P17.4, P17.5: logs that share checksums: two texts for which codec.Sum of all that the events are agrees; the same sum of bytes, the same bytes in another order, as many bytes.
+func TestOfSharedSums(t *testing.T) {
+	with := func(n int, x string) api.Event { return event("taken", 0, number("n", n), words("x", x)) }
+	for _, c := range [][2]api.Event{
+		{with(2, "bH2DCmbP"), with(3, "GtYLK2nX")}, {with(2, "3"), with(3, "2")}, {with(2, "a"), with(3, "`")}, {with(2, "ab"), with(-2, "ba")}, {with(0, ""), with(1, "")},
+	} {
+		for range 2 {
+			c[0], c[1] = c[1], c[0]
+			a, b := begun(t, 64), begun(t, 64)
+			a.add("acc", c[0])
+			b.add("acc", c[1])
+			b.saves(a.view(chapter(), 1))
+			b.opens(chapter(), 0)
+			b.goesOn(chapter())
+			b.save(b.view(chapter(), 1))
+			b.opens(chapter(), 1)
+			a.saves(b.view(chapter(), 1))
+			a.opens(chapter(), 0)
+			a.goesOn(chapter())
+		}
 	}
 }
 
@@ -191,44 +223,39 @@ func TestBytesByHand(t *testing.T) {
 	w.isLog()
 }
 
-// R1: what is laid as a view is, with numbers and rows that there never are.
+// R1: what is laid as a view is, with numbers and rows that there never are, or that are not of these events.
 func TestLaidByHand(t *testing.T) {
 	w := some(t, 3)
 	rows, _ := rowsOf(300)
-	own := w.view(chapter(), 3).state.mark
-	for _, mark := range []uint32{0, 1, 1<<32 - 1, own} {
-		for _, cursor := range []int{0, 1, 3, 4, 5, -1, most, least, 1 << 40} {
-			head := codec.PutInt(codec.Put32(nil, mark), cursor)
-			for _, l := range [][]api.Row{nil, rows, {row("a", most), row("a", least)}, {row("acc", most), row("box", least)}, {row(strings.Repeat("x", 200), 5)}} {
-				survives(w, string(append(slices.Clone(head), parts(l, putRow)...)))
-			}
-			survives(w, string(codec.PutText(head, strings.Repeat("x", 201)))+"\x00")
-			survives(w, string(head)+"\xff\xff\xff\xff\xff\xff\xff\xff\xff\x01")
-			survives(w, string(head)+"\x01x")
+	for _, cursor := range []int{0, 1, 2, 3, 4, 5, -1, most, least, 1 << 40} {
+		head := codec.PutInt(nil, cursor)
+		for _, l := range [][]api.Row{nil, rows, {row("a", most), row("a", least)}, {row("acc", most), row("box", least)}, {row(strings.Repeat("x", 200), 5)}} {
+			survives(w, string(append(slices.Clone(head), parts(l, putRow)...)))
 		}
+		survives(w, string(codec.PutText(head, strings.Repeat("x", 201)))+"\x00")
+		survives(w, string(head)+"\xff\xff\xff\xff\xff\xff\xff\xff\xff\x01")
+		survives(w, string(head)+"\x01x")
 	}
 }
 
-// What was laid is read as it was; and nothing else is read so.
+// Unlike views are laid as unlike bytes.
 func TestLaid(t *testing.T) {
-	for _, mark := range []uint32{0, 1, 0xdeadbeef, 1<<32 - 1} {
-		for _, cursor := range []int{0, 1, 127, 1 << 20, most} {
-			for _, l := range [][]api.Row{nil, {row("", 0)}, {row("", -1), row("\x00", bound), row(strings.Repeat("x", 200), -bound)}} {
-				rows := map[string]int{}
-				for _, r := range l {
-					rows[r.Key] = r.N
-				}
-				data := lay(taken{cursor, mark, rows})
-				got, whole := unlay(data)
-				if !whole || got.cursor != cursor || got.mark != mark || !slices.Equal(got.list(), l) {
-					t.Errorf("%+v, %v", got, whole)
-				}
-				for i := range data {
-					if got, whole := unlay(data[:i]); whole && string(lay(got)) != string(data[:i]) {
-						t.Errorf("%d bytes of %d: %+v", i, len(data), got)
-					}
-				}
+	of := map[string]string{}
+	for _, cursor := range []int{0, 1, 127, 128, 1 << 20, most} {
+		for _, l := range [][]api.Row{nil, {row("", 0)}, {row("", 1)}, {row("a", 0)}, {row("", 0), row("a", 0)}, {row("", 0), row("a", 1)}, {row("a", 0), row("b", 0)}, {row("", -1), row("\x00", bound), row(strings.Repeat("x", 200), -bound)}} {
+			rows := map[string]int{}
+			for _, r := range l {
+				rows[r.Key] = r.N
 			}
+			view := fmt.Sprint(cursor, l)
+			data := string(lay(taken{cursor, rows}))
+			if other, there := of[data]; there {
+				t.Errorf("%s is laid as %s is", view, other)
+			}
+			if got := cursorOf([]byte(data)); got != cursor {
+				t.Errorf("%s: the cursor %d", view, got)
+			}
+			of[data] = view
 		}
 	}
 }

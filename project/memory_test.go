@@ -307,7 +307,7 @@ func TestSameAgain(t *testing.T) {
 	}
 }
 
-// What a view keeps does not grow with the events that it takes: its cursor, a mark, and its rows.
+// What a view keeps does not grow with the events that it takes: its cursor and its rows.
 func TestKept(t *testing.T) {
 	v := New(chapter(), nil)
 	for range 5000 {

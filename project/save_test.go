@@ -194,7 +194,7 @@ func TestTooLong(t *testing.T) {
 		default:
 			t.Fatalf("%v: the cursor %d", c, opened)
 		}
-		// Each row needs its key's bytes, how many these are, its number; the marks ahead are few.
+		// Each row needs its key's bytes, how many these are, its number; the bytes ahead are few.
 		bytes := 0
 		for _, r := range v.Rows() {
 			bytes += len(r.Key)

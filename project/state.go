@@ -22,7 +22,6 @@ type state struct {
 // taken is what has come of the events that were taken. It is what is saved.
 type taken struct {
 	cursor int
-	mark   uint32 // of these events
 	rows   map[string]int
 }
 
@@ -39,7 +38,6 @@ func begin(p api.Projection, l []api.Upcast) *state {
 // take takes the event whose place is the cursor.
 func (s *state) take(x api.Entry) {
 	s.cursor++
-	s.mark = markBehind(s.mark, x)
 	e := upcast.Apply(s.upcasts, x.Event)
 	for _, sum := range s.sums {
 		if sum.Type == e.Type {

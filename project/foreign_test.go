@@ -117,6 +117,28 @@ func TestToldApart(t *testing.T) {
 	}
 }
 
+// P17.4: what the other one has come to is told apart by each thing of each row, and by how many there are: what Open gives is the view that was saved, or one without any.
+func TestRowsToldApart(t *testing.T) {
+	for _, l := range [][]api.Event{
+		{adds("a", 1), adds("b", 2), adds("c", 3)}, {adds("a", 1), adds("b", 2), adds("c", 3), adds("c", 0)},
+		{adds("a", 1), adds("b", 2), adds("b", 0)}, {adds("b", 2), adds("a", 1), given(9)}, {adds("b", 2), adds("c", 3), given(9)}, {adds("a", 1), adds("b", 2), adds("d", 3)}, {adds("a", 1), adds("b", 2), adds("c", 4)}, {adds("a", 1), adds("b", -2), adds("c", 3)}, {given(1), given(2), given(3)}, {adds("", 1), adds("b", 2), adds("c", 3)}, {adds("ab", 1), adds("b", 2), adds("c", 3)},
+	} {
+		for _, own := range [][]api.Event{{adds("a", 1), adds("b", 2), adds("c", 3)}, {adds("a", 1), adds("b", 2), given(3)}, {given(1), given(2), adds("a", 1)}} {
+			w, other := begun(t, 64), begun(t, 64)
+			w.add("s", own...)
+			other.add("s", l...)
+			v := other.view(byKey(), len(l))
+			want := 0
+			if len(l) == 3 && slices.Equal(v.Rows(), w.view(byKey(), 3).Rows()) {
+				want = 3
+			}
+			w.saves(v)
+			w.opens(byKey(), want)
+			w.goesOn(byKey())
+		}
+	}
+}
+
 // P17.4, P17.5: logs that share checksums: two texts for which codec.Sum of all that the events are agrees; the same sum of bytes, the same bytes in another order, as many bytes.
 func TestOfSharedSums(t *testing.T) {
 	with := func(n int, x string) api.Event { return event("taken", 0, number("n", n), words("x", x)) }
